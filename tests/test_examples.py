@@ -1,0 +1,30 @@
+import unittest
+
+from staletags.keepers import led
+from staletags.standings import after, barred
+from staletags.webs import ring_web, row_web, two_lots
+
+
+class ExamplesTest(unittest.TestCase):
+    """The examples of the document, as they stand."""
+
+    r3 = row_web(3, 1)
+    s = ((True, (0,)), (False, (1,)), (True, (2,)))
+
+    def test_e01(self):
+        self.assertEqual(two_lots(self.r3), ((0, 2), (1,)))
+        self.assertIsNone(two_lots(ring_web(5, 0)))
+
+    def test_e02(self):
+        r3, s = self.r3, self.s
+        self.assertEqual(barred(r3, s, 1), (0, 1, 2))
+        self.assertEqual(after(r3, s, ("give", 1, 3)), ((True, (0,)), (True, (3,)), (True, (2,))))
+
+    def test_e03(self):
+        r3 = self.r3
+        told = led(lambda web, k, past, room: 0, r3, 3, (("give", 0), ("give", 2), ("give", 1)))
+        self.assertEqual(told, ((("give", 0, 0), ("give", 2, 0), ("give", 1, 0)), "barred"))
+
+
+if __name__ == "__main__":
+    unittest.main()
