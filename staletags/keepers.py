@@ -38,20 +38,24 @@ def led(keeper, web, k, row):
     standing = begun(web)
     # A copy, as the keeper may be one that changes the row itself.
     for ask in tuple(row):
-        deed, word = answered(keeper, web, k, past, standing, ask)
-        if deed is not None:
-            past = past + (deed,)
+        past, standing, word = led_on(keeper, web, k, past, standing, ask)
         if word != "kept":
             return past, word
-        standing = with_deed(web, standing, deed)
     return past, "kept"
 
 
-def answered(keeper, web, k, past, standing, ask):
-    """The deed that is done for an ask, or None, and the word for what the keeper returned."""
-    if ask[0] == "back":
-        return ask, "kept"
-    tag = keeper(web, k, past, ask[1])
+def led_on(keeper, web, k, past, standing, ask):
+    """The past and the standing behind one more ask, and the word for what the keeper returned."""
+    deed, word = ask, "kept"
+    if ask[0] == "give":
+        deed, word = deed_of(web, k, standing, ask, keeper(web, k, past, ask[1]))
+    if deed is None:
+        return past, standing, word
+    return past + (deed,), with_deed(web, standing, deed), word
+
+
+def deed_of(web, k, standing, ask, tag):
+    """The deed that is done for an ask to give, or None, and the word for what a keeper returned as its tag."""
     if tag is None:
         return None, "stuck"
     if not is_between(0, k - 1, tag):

@@ -1,13 +1,40 @@
 """Standings of webs: which rooms are held, their last tags, and the deeds that change both."""
 
 from staletags.errors import NoDeed
-from staletags.kinds import check_tags, is_number
+from staletags.kinds import check_tags, is_between, is_number
 from staletags.webs import is_room, tied
 
 
 def begun(web):
     """The standing in which all rooms are free, without tags."""
     return ((False, ()),) * len(web.memories)
+
+
+def is_standing(web, k, thing):
+    """Whether a thing has the form of a standing of the web, all its tags below k."""
+    if not isinstance(thing, tuple) or len(thing) != len(web.memories):
+        return False
+    return all([is_room_standing(kept_tags(web, room), k, part) for room, part in enumerate(thing)])
+
+
+def is_room_standing(most, k, thing):
+    """Whether a thing is a flag and so many last tags at most, one at least if the flag is True."""
+    if not isinstance(thing, tuple) or len(thing) != 2:
+        return False
+    held, tags = thing
+    if not isinstance(held, bool) or not isinstance(tags, tuple) or len(tags) > most:
+        return False
+    if held and not tags:
+        return False
+    return all([is_between(0, k - 1, tag) for tag in tags])
+
+
+def asks_at(standing):
+    """The ascending list of the asks that can be done in a standing."""
+    rooms = range(len(standing))
+    backs = [("back", room) for room in rooms if standing[room][0]]
+    gives = [("give", room) for room in rooms if not standing[room][0]]
+    return backs + gives
 
 
 def is_ask(web, standing, thing):

@@ -110,12 +110,22 @@ def grid_web(wide, high, memory):
 
 def sided_web(sizes, memory):
     """The web of sides of so many rooms each: rooms are tied just if they are of unlike sides."""
-    check_sizes(sizes)
-    check_number(0, MOST_MEMORY, memory)
-    sides = [side for side, size in enumerate(sizes) for _ in range(size)]
+    check_sided(sizes, memory)
+    sides = room_sides(sizes)
     rooms = range(len(sides))
     ties = [(one, other) for one in rooms for other in rooms if one < other and sides[one] != sides[other]]
     return Web((memory,) * len(sides), tuple(ties))
+
+
+def room_sides(sizes):
+    """For each room, the number of its side."""
+    return [side for side, size in enumerate(sizes) for _ in range(size)]
+
+
+def check_sided(sizes, memory):
+    """Raise NoNumber unless these are the sizes of the sides, and the memory, of a web."""
+    check_sizes(sizes)
+    check_number(0, MOST_MEMORY, memory)
 
 
 def check_sizes(sizes):
@@ -135,7 +145,28 @@ def two_lots(web):
     depths, _ = search_trees(web)
     if tie_within_depth(web, depths) is not None:
         return None
-    rooms = range(len(depths))
+    return lots_by_depth(list(range(len(depths))), depths)
+
+
+def pieces(web):
+    """For each piece, the pair of the lot of its rooms and of its two lots, or None for these."""
+    depths, parents = search_trees(web)
+    rooms = {}
+    for room in range(len(depths)):
+        rooms.setdefault(root_of(parents, room), []).append(room)
+    odd = {root_of(parents, one): True for one, other in web.ties if depths[one] == depths[other]}
+    return [(tuple(rooms[root]), None if root in odd else lots_by_depth(rooms[root], depths)) for root in rooms]
+
+
+def root_of(parents, room):
+    """The root of the tree that a room stands in."""
+    while parents[room] is not None:
+        room = parents[room]
+    return room
+
+
+def lots_by_depth(rooms, depths):
+    """The pair of the lots of those of some rooms that are of even and of odd depth."""
     first = tuple([room for room in rooms if depths[room] % 2 == 0])
     second = tuple([room for room in rooms if depths[room] % 2 == 1])
     return first, second

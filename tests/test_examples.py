@@ -1,6 +1,9 @@
 import unittest
 
+from staletags.counts import least_enough, least_needed, most_givings, ring_dyed, sided_number
 from staletags.keepers import led
+from staletags.looks import slip_of
+from staletags.settling import least_tags
 from staletags.standings import after, barred
 from staletags.webs import ring_web, row_web, two_lots
 
@@ -24,6 +27,18 @@ class ExamplesTest(unittest.TestCase):
         r3 = self.r3
         told = led(lambda web, k, past, room: 0, r3, 3, (("give", 0), ("give", 2), ("give", 1)))
         self.assertEqual(told, ((("give", 0, 0), ("give", 2, 0), ("give", 1, 0)), "barred"))
+
+    def test_e04(self):
+        r3 = self.r3
+        self.assertEqual((least_needed(r3), least_enough(r3), most_givings(r3)), (4, 4, 5))
+        self.assertEqual(sided_number((2, 3), 1), 4)
+
+    def test_e05(self):
+        self.assertEqual(least_tags(row_web(2, 1), 5), 3)
+        self.assertEqual(ring_dyed(2, 1), 5)
+
+    def test_e06(self):
+        self.assertEqual(slip_of(row_web(2, 1), (("give", 0, 0), ("give", 1, 1)), 0, 1), ("near", 0, 1, 0))
 
 
 if __name__ == "__main__":

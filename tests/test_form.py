@@ -25,6 +25,20 @@ INTERFACE = {
         "is_past(web, k, thing)", "first_barred(web, past)",
     ],
     "keepers.py": ["is_row(web, thing)", "led(keeper, web, k, row)", "steadily(steady)", "by_table(table)"],
+    "walks.py": ["walked(steady, web, k)", "is_table(web, k, thing)"],
+    "counts.py": [
+        "needs(web, room)", "least_needed(web)", "least_enough(web)", "sided_number(sizes, memory)",
+        "most_givings(web)", "ring_dyed(half, memory)",
+    ],
+    "told.py": ["told_keeper(web, k)", "sided_keeper(sizes, memory, k)"],
+    "foes.py": ["met(keeper, foe, web, k, most)", "told_foe(web, k)", "sided_foe(sizes, memory, k)"],
+    "settling.py": ["settled(web, k)", "is_plan(web, k, thing)", "least_tags(web, most)"],
+    "dyes.py": [
+        "blindly(unseeing)", "is_dyeing(web, k, thing)", "dyeing(web, k)", "least_dyed(web, most)", "in_turn(dyeing)",
+        "blind_row(unseeing, web, k, many)",
+    ],
+    "passing.py": ["passing(steady, web, k, slip)"],
+    "looks.py": ["slip_of(web, past, giving, room)"],
 }
 
 BARRED_WORDS = [
