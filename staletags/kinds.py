@@ -3,6 +3,7 @@
 from staletags.errors import NoNumber, NoTags
 
 MOST_TAGS = 200
+MOST_SIZE = 8
 
 
 def is_integer(thing):
@@ -31,3 +32,8 @@ def check_tags(k):
     """Raise NoTags unless k is a count of tags."""
     if not is_between(1, MOST_TAGS, k):
         raise NoTags()
+
+
+def check_size(size):
+    """Raise NoNumber unless this is a count of cells that a room can have."""
+    check_number(1, MOST_SIZE, size)

@@ -3,6 +3,8 @@
 import random
 
 from staletags.errors import BadWeb, NoRoom, TagError
+from staletags.hands import Program
+from staletags.heap import Heap
 from staletags.webs import Web
 
 
@@ -26,7 +28,7 @@ ODD_ONES = [
     None, True, False, "", "a", "0", "give", b"", b"give", bytearray(b"x"), memoryview(b"ab"), {}, {0: 0},
     {"give": 0}, range(0), range(2), slice(0, 1), Ellipsis, NotImplemented, object(), len, int, iter([]),
     zip(), {}.keys(), {0: 1}.items(), lambda: 0, property(), Web((0,), ()), Web((1, 1), ((0, 1),)), NoRoom(), BadWeb("ties"),
-    TagError, Web, DEEP[2],
+    TagError, Web, DEEP[2], Program(()), Program((("take", "a"),)), Program, Heap(Web((0,), ()), 1, len, 1), Heap,
 ]
 
 NO_INTEGERS = ODD_ONES + [(), (0,), [], [0], (0, 1), [0, 1]] + DEEP

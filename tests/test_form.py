@@ -8,7 +8,7 @@ import unittest
 ROOT = pathlib.Path(__file__).resolve().parent.parent
 PACKAGE = ROOT / "staletags"
 
-# The interface, as far as it has been asked for.
+# The interface.
 INTERFACE = {
     "errors.py": [
         "TagError", "NoRoom", "NoNumber", "NoTags", "NoDeed", "TooFew", "NotFew", "NoSlip", "NotRight", "NotFree",
@@ -39,7 +39,30 @@ INTERFACE = {
     ],
     "passing.py": ["passing(steady, web, k, slip)"],
     "looks.py": ["slip_of(web, past, giving, room)"],
+    "heap.py": ["Heap(web, k, keeper, size)"],
+    "hands.py": ["Program(block)"],
+    "runs.py": [
+        "plain(program, web, size, most)", "tagged(program, web, k, keeper, size, most)",
+        "found_always(program, web, size, most)",
+    ],
+    "journals.py": ["recovered(web, k, keeper, size, text)"],
+    "ties.py": ["clashes(web, standing)", "anew(web, standing)", "given_anew(web, k, standing)"],
+    "texts.py": ["web_text(web)", "program_text(program)", "read_web(text)", "read_program(text)"],
+    "weaves.py": [
+        "woven(hands, web, size, weaving)", "woven_tagged(hands, web, k, keeper, size, weaving)",
+        "whole_weavings(hands, web, size)", "outcomes(hands, web, size)", "least_slip(hands, web, size)",
+        "least_open(hands, web, size)", "passing_weaving(hands, web, k, steady, size)",
+    ],
+    "chances.py": ["chances(program, web, k, way, size, most)", "let_chance(program, web, k, way, size, most)"],
 }
+
+HEAP_METHODS = [
+    "give(room)", "take()", "back(giving)", "read(giving, room, cell)", "write(giving, room, cell, number)", "past()",
+    "cells(room)", "standing()", "handles()", "slips()", "looks()", "journal()", "copy()",
+]
+
+# The names of Python's library that may be imported.
+LIBRARY = [("math", "gcd"), ("itertools", "combinations")]
 
 BARRED_WORDS = [
     "type", "typing", "enum", "Enum", "Flag", "Generic", "Protocol", "ABC", "namedtuple", "global", "async", "eval",
@@ -83,7 +106,11 @@ class FormTest(unittest.TestCase):
         for name, text in sources().items():
             for node in ast.walk(ast.parse(text)):
                 self.assertNotIsInstance(node, ast.Import, name)
-                if isinstance(node, ast.ImportFrom):
+                if isinstance(node, ast.ImportFrom) and not node.module.startswith("staletags"):
+                    for alias in node.names:
+                        self.assertIn((node.module, alias.name), LIBRARY)
+                        self.assertIsNone(alias.asname)
+                elif isinstance(node, ast.ImportFrom):
                     self.assertRegex(node.module, r"^staletags\.[a-z]+$")
                     self.assertEqual(node.level, 0)
                     defined = ast.parse(sources()[node.module.split(".")[1] + ".py"]).body
@@ -112,6 +139,15 @@ class FormTest(unittest.TestCase):
                 word, _, rest = item.partition("(")
                 args = [arg for arg in rest.rstrip(")").split(", ") if arg]
                 self.assertEqual(found.get(word), args, item)
+
+    def test_methods_of_the_heap_stand_in_its_class(self):
+        tree = ast.parse(sources()["heap.py"])
+        heap = [node for node in tree.body if isinstance(node, ast.ClassDef) and node.name == "Heap"][0]
+        found = dict(signature(node) for node in heap.body if isinstance(node, ast.FunctionDef))
+        for item in HEAP_METHODS:
+            word, _, rest = item.partition("(")
+            args = [arg for arg in rest.rstrip(")").split(", ") if arg]
+            self.assertEqual(found.get(word), ["self"] + args, item)
 
 
 if __name__ == "__main__":

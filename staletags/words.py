@@ -1,0 +1,14 @@
+"""Integers as they are written in journals and texts."""
+
+DIGITS = "0123456789"
+
+
+def read_integer(word, most):
+    """The integer that is written as this word, in so many digits at most, or None."""
+    bare = word[1:] if word.startswith("-") else word
+    # Asked ahead of int, which takes blanks, underscores and other signs, too.
+    if not 1 <= len(bare) <= most or not all([sign in DIGITS for sign in bare]):
+        return None
+    number = int(word)
+    # A needless 0 or - is not written again.
+    return number if str(number) == word else None
