@@ -71,9 +71,15 @@ def run_to_choice(weave, way, most):
         tags = tags_to_draw(weave, way)
         if len(tags) > 1:
             return tags
-        weave.rooms.drawn = tags[0] if tags else None
-        weave.come(0)
+        come_with(weave, tags[0] if tags else None)
     return []
+
+
+def come_with(weave, tag):
+    """Do the next statement; a room that it gives gets this tag, or its hand is stuck if this is None."""
+    rooms = weave.rooms
+    rooms.drawn = tag
+    weave.come(0)
 
 
 def tags_to_draw(weave, way):
@@ -93,8 +99,7 @@ def drawn_on(weave, tags, bottom):
     following = []
     for tag in tags:
         behind = weave.twin()
-        behind.rooms.drawn = tag
-        behind.come(0)
+        come_with(behind, tag)
         following.append((behind, bottom * len(tags)))
     return following
 

@@ -5,6 +5,7 @@ from staletags.kinds import check_number, check_size, check_tags, is_between, is
 from staletags.looks import check_near
 from staletags.rooms import TaggedRooms
 from staletags.webs import check_room
+from staletags.words import written
 
 
 class Heap:
@@ -89,7 +90,7 @@ class Heap:
 
     def journal(self):
         """A line for each deed and each write that was let."""
-        return "".join([" ".join([str(part) for part in line]) + "\n" for line in self._lines])
+        return "".join([line_text(line) for line in self._lines])
 
     def copy(self):
         """A heap that goes on apart."""
@@ -130,3 +131,8 @@ class Heap:
             self._slips.append((self._looks, slip))
         self._looks += 1
         return let
+
+
+def line_text(line):
+    """A line of a journal as it is written, with the line feed that closes it."""
+    return " ".join([line[0]] + [written(number) for number in line[1:]]) + "\n"
