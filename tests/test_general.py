@@ -1,24 +1,44 @@
 import copy
 import unittest
 
+from heaps import state, turned, zero
 from helpers import nested, random_story, random_web, rng
-from keeping import least, least_steady
+from keeping import drawing, least, least_steady
+from running import random_program
 from staletags import kinds
+from staletags.chances import chances, let_chance
 from staletags.counts import least_enough, least_needed, most_givings, needs, ring_dyed, sided_number
 from staletags.dyes import blind_row, blindly, dyeing, in_turn, is_dyeing, least_dyed
-from staletags.errors import BadFoe, BadWeb, NoDeed, NoPast, NoRow, NoSlip
+from staletags.errors import (
+    BadFoe, BadProgram, BadText, BadWeb, NoDeed, NoGiving, NoHands, NoNear, NoNumber, NoPast, NoRoom, NoRow, NoSlip, NoText,
+    NoWay, NoWeaving, NotKept,
+)
 from staletags.foes import met, sided_foe, told_foe
+from staletags.hands import Program
+from staletags.heap import Heap
+from staletags.journals import recovered
 from staletags.keepers import by_table, is_row, led, steadily
 from staletags.looks import slip_of
 from staletags.passing import passing
+from staletags.runs import found_always, plain, tagged
 from staletags.settling import is_plan, least_tags, settled
 from staletags.standings import after, barred, begun, first_barred, is_past, standing_of
+from staletags.texts import program_text, read_program, read_web, web_text
+from staletags.ties import anew, clashes, given_anew
 from staletags.told import sided_keeper, told_keeper
 from staletags.walks import is_table, walked
+from staletags.weaves import least_open, least_slip, outcomes, passing_weaving, whole_weavings, woven, woven_tagged
 from staletags.webs import Web, is_odd_ring, odd_ring, ring_web, row_web, tied, two_lots
 
 R2 = row_web(2, 1)
 R3 = row_web(3, 1)
+BARE = row_web(2, 0)
+
+# A program with statements of all kinds, with an open slip that is let by some.
+HAND = Program((
+    ("num", "n", 3), ("give", "a", 0), ("write", "a", 0, 0, "n"), ("back", "a"), ("take", "bb"), ("again", 2, (("print", "n"),)),
+    ("if", "n", (("read", "n", "a", 0, 0), ("sum", "n", "n", "n")), (("copy", "a", "bb"),)), ("print", "n"),
+))
 
 
 class KindsTest(unittest.TestCase):
@@ -84,6 +104,50 @@ class JudgedThingsTest(unittest.TestCase):
                 self.assertRaises(BadFoe, met, None, lambda past: thing, R3, 4, 1)
                 self.assertEqual(led(lambda web, k, past, room: thing, R3, 4, [("give", 0)]), ((), "odd"))
 
+    def test_nested_deep_in_heaps(self):
+        for wrap in self.wraps:
+            for depth in (1, 2, 39, 40):
+                thing = nested(depth, wrap, ())
+                heap = Heap(R2, 3, lambda web, k, past, room: thing if past else 0, 1)
+                heap.give(0)
+                self.assertRaises(NoRoom, heap.give, thing)
+                self.assertRaises(NoRoom, heap.cells, thing)
+                self.assertRaises(NotKept, heap.take)
+                self.assertRaises(NoGiving, heap.back, thing)
+                self.assertRaises(NoGiving, heap.read, thing, 0, 0)
+                self.assertRaises(NoNear, heap.read, 0, thing, 0)
+                self.assertRaises(NoNumber, heap.read, 0, 0, thing)
+                self.assertRaises(NoNumber, heap.write, 0, 0, 0, thing)
+                self.assertRaises(NoNumber, Heap, R2, 3, least, thing)
+                self.assertRaises(NoText, recovered, R2, 3, least, 1, thing)
+                self.assertEqual((heap.past(), heap.looks()), ((("give", 0, 0),), 0))
+
+    def test_nested_deep_in_programs(self):
+        for wrap in self.wraps:
+            for depth in (1, 2, 39, 40):
+                thing = nested(depth, wrap, None)
+                for statement in (thing, ("print", thing), ("num", "a", thing), ("again", thing, ()), ("give", "a", thing), (thing, "a")):
+                    self.assertRaises(BadProgram, Program, (statement,))
+                    self.assertRaises(BadProgram, Program, (("again", 2, (statement,)),))
+                self.assertRaises(BadProgram, Program, (("if", "a", (), thing),))
+                self.assertRaises(BadProgram, Program, thing)
+                self.assertRaises(BadText, read_web, thing)
+                self.assertRaises(BadText, read_program, thing)
+                self.assertRaises(NoHands, woven, thing, R2, 1, ())
+                self.assertRaises(NoHands, least_open, (HAND, thing), R2, 1)
+                self.assertRaises(NoWeaving, woven, (HAND,), R2, 1, (0, thing))
+                self.assertRaises(NoNumber, plain, HAND, R2, 1, thing)
+                self.assertRaises(NoWay, chances, HAND, R2, 2, thing, 1, 1)
+                self.assertEqual(tagged(HAND, R2, 2, lambda web, k, past, room: thing, 1, 9)[0], "odd")
+
+    def test_programs_nested_deep(self):
+        for many in range(1, 41):
+            block = nested(many - 1, lambda inner: (("again", 1, inner),), (("print", "a"),))
+            if many <= 6:
+                self.assertEqual(plain(Program(block), R2, 1, 99), ("over", (0,), ()))
+            else:
+                self.assertRaises(BadProgram, Program, block)
+
     def test_nested_deep_as_keys(self):
         for wrap in self.wraps[:1] + self.wraps[3:]:
             for depth in (1, 2, 3, 39):
@@ -108,6 +172,12 @@ class JudgedThingsTest(unittest.TestCase):
             self.assertRaises(NoSlip, passing, None, R3, 4, thing)
             self.assertRaises(NoPast, slip_of, R3, thing, 0, 0)
             self.assertRaises(BadFoe, met, None, lambda past: thing, R3, 4, 1)
+            self.assertRaises(BadProgram, Program, thing)
+            self.assertRaises(BadProgram, Program, (thing,))
+            self.assertRaises(BadProgram, Program, (("again", 2, thing),))
+            self.assertRaises(NoHands, woven, thing, R2, 1, ())
+            self.assertRaises(NoWeaving, woven, (HAND,), R2, 1, thing)
+            self.assertRaises(NoWay, chances, HAND, R2, 2, thing, 1, 1)
         self.assertIs(is_odd_ring(ring_web(3, 0), (0, 1, 2) * 6665), False)
 
     def test_integers_of_forty_digits(self):
@@ -150,7 +220,33 @@ class NothingChangesTest(unittest.TestCase):
             (is_dyeing, [R2, 4, ([0, 1], (2, 3))]), (least_dyed, [R3, 9]),
             (blind_row, [in_turn(((0, 1),) * 3), R3, 4, 2]), (passing, [least_steady, R2, 3, ("near", 0, 1, 0)]),
             (passing, [least_steady, R2, 3, ["near", 0, 1, 0]]), (slip_of, [R3, past, 0, 1]), (slip_of, [R3, [past], 0, 1]),
+        ] + self.hand_calls()
+
+    def hand_calls(self):
+        clashing = ((True, (1,)), (True, (1,)), (True, (1,)))
+        hands = (HAND, Program((("take", "c"), ("back", "bb"))))
+        block = (("print", "a"), ("again", 2, (("take", "a"), ["print", "a"])))
+        return [
+            (self.led_heap, [R2, 2, [(0, 0, 4), (1, 1, -4)]]), (self.recovered_state, [R2, 3, "give 0 0\nput 0 0 7\nback 1\n"]),
+            (recovered, [R2, 3, least, 1, ["give 0 0\n"]]), (Program, [block[:1]]), (Program, [block]), (Program, [list(block)]),
+            (plain, [HAND, R2, 1, 99]), (plain, [HAND, R2, 1, [9]]), (tagged, [HAND, R2, 3, least, 1, 99]), (tagged, [HAND, BARE, 3, zero, 1, 99]),
+            (found_always, [HAND, R2, 1, 99]), (clashes, [row_web(3, 0), clashing]), (anew, [row_web(3, 0), clashing]),
+            (given_anew, [row_web(3, 0), 3, clashing]), (given_anew, [row_web(3, 0), 2, clashing]), (web_text, [R3]), (program_text, [HAND]),
+            (read_web, [web_text(R3)]), (read_web, ["rooms 1\ntie 0 1"]), (read_web, [[web_text(R3)]]), (read_program, [program_text(HAND)]),
+            (read_program, ["again 2 do"]), (woven, [hands, R2, 1, (0, 0, 1, 0)]), (woven, [hands, R2, 1, [0, 0]]), (woven, [list(hands), R2, 1, ()]),
+            (woven_tagged, [hands, R2, 3, least, 1, (0, 0, 1, 1)]), (whole_weavings, [hands, R2, 1]), (outcomes, [hands, R2, 1]),
+            (least_slip, [hands, R2, 1]), (least_open, [hands, R2, 1]), (passing_weaving, [hands, BARE, 1, least_steady, 1]),
+            (chances, [HAND, BARE, 3, "any", 1, 99]), (chances, [HAND, BARE, 3, ["any"], 1, 99]), (let_chance, [HAND, BARE, 3, "free", 1, 99]),
         ]
+
+    def led_heap(self, web, size, writes):
+        heap = Heap(web, 3, least, size)
+        heap.give(0)
+        return state(heap), [heap.write(0, *write) for write in writes], state(heap.copy())
+
+    def recovered_state(self, web, k, text):
+        heap, many = recovered(web, k, least, 1, text)
+        return state(heap), many
 
     def answer(self, call, args):
         try:
@@ -171,12 +267,39 @@ class NothingChangesTest(unittest.TestCase):
             self.assertEqual(self.answer(call, args), self.answer(call, others))
 
     def test_lists_and_dicts_are_new(self):
+        for call, args in (
+            (clashes, [row_web(2, 0), ((True, (1,)), (True, (1,)))]), (outcomes, [(HAND,), R2, 1]), (chances, [HAND, R2, 3, "any", 1, 9]),
+            (turned(2).handles, []), (self.slips_of_heap().slips, []),
+        ):
+            one, other = call(*args), call(*args)
+            self.assertIsNot(one, other)
+            one.clear()
+            self.assertNotEqual(one, other)
+            self.assertEqual(call(*args), other)
         for call, args in ((walked, [least_steady, R2, 3]), (settled, [R2, 3]), (settled, [R2, 2])):
             one, other = call(*args), call(*args)
             self.assertIsNot(one[1], other[1])
             one[1].clear()
             self.assertNotEqual(one, other)
             self.assertEqual(call(*args), other)
+
+    def slips_of_heap(self):
+        heap = turned(2)
+        heap.read(0, 0, 0)
+        return heap
+
+    def test_objects_keep_what_they_were_made_of(self):
+        rows = [("print", "a")]
+        program = Program(tuple(rows))
+        rows.append(("print", "b"))
+        self.assertEqual(program.block, (("print", "a"),))
+        plain(program, R2, 1, 9)
+        woven((program, program), R2, 1, (0, 1))
+        self.assertEqual(program.block, (("print", "a"),))
+        heap = Heap(R2, 3, least, 1)
+        other = heap.copy()
+        other.take()
+        self.assertEqual((heap.past(), heap.handles()), ((), []))
 
     def test_webs_stay(self):
         web = Web((1, 0, 2), ((0, 1), (1, 2)))
@@ -207,6 +330,40 @@ class NothingChangesTest(unittest.TestCase):
         self.assertEqual(slip_of(web, past, 0, 0), ("elder", 0, 1999))
         row, word = walked(least_steady, R3, 3)[1:]
         self.assertEqual(led(steadily(least_steady), R3, 3, row)[1], word)
+
+    def test_large_numbers_may_be_passed_on(self):
+        # The longest weaving that can be passed brings numbers that Python does not write at once.
+        double = (("sum", "n", "n", "n"),) * 2
+        hand = Program((("num", "n", -10 ** 9), ("again", 100, (("again", 99, double),)), ("print", "n")))
+        words, said, _ = woven((hand,), R2, 1, (0,) * (1 + 1 + 100 * (1 + 198) + 1))
+        number = -10 ** 9 * 2 ** 19800
+        self.assertEqual((words, said), (("over",), ((number,),)))
+        heap = Heap(R2, 3, least, 1)
+        heap.take()
+        self.assertEqual(heap.write(0, 0, 0, number), ("let", number))
+        self.assertEqual(heap.cells(0), (number,))
+        word = heap.journal().split("\n")[1].split(" ")[3]
+        self.assertEqual(len(word), 1 + 9 + 5961)
+        self.assertEqual(self.read_digits(word), number)
+        self.assertEqual(recovered(R2, 3, least, 1, heap.journal())[1], len("give 0 0\n"))
+
+    def read_digits(self, word):
+        number = 0
+        for sign in word[1:]:
+            number = number * 10 + int(sign)
+        return -number
+
+    def test_texts_may_be_passed_on(self):
+        dice = rng(61)
+        for _ in range(30):
+            program = random_program(dice, R3, 1, 20)
+            self.assertEqual(read_program(program_text(program)), program)
+        heap = Heap(row_web(1, 1), 2, drawing(1), 1)
+        for number in range(3000):
+            heap.back(heap.give(0))
+        self.assertGreater(len(heap.journal()), 20000)
+        other, many = recovered(row_web(1, 1), 2, drawing(1), 1, heap.journal())
+        self.assertEqual((many, other.past()), (len(heap.journal()), heap.past()))
 
 
 if __name__ == "__main__":

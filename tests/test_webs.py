@@ -2,6 +2,9 @@ import unittest
 
 from helpers import DEEP, NO_INTEGERS, NO_TUPLES, random_web, rng
 from staletags.errors import BadWeb, NoNumber, NoRoom
+from staletags.hands import Program
+from staletags.heap import Heap
+from staletags.standings import begun
 from staletags.webs import Web, grid_web, ring_web, row_web, sided_web, tied
 
 
@@ -86,9 +89,12 @@ class WebTest(unittest.TestCase):
             ties = ((0, 1),)
 
         others = [((1, 2), ((0, 1),)), [(1, 2), ((0, 1),)], "web", None, 0, True, BadWeb("ties"), Web, Alike(), {}]
+        others += [Program(()), Program((("take", "a"),)), Heap(web, 1, len, 1), begun(web)]
         for other in others:
-            self.assertFalse(web == other)
-            self.assertTrue(web != other)
+            self.assertIs(web == other, False)
+            self.assertIs(other == web, False)
+            self.assertIs(web != other, True)
+            self.assertIs(other != web, True)
 
     def test_tied(self):
         web = Web((0,) * 5, ((0, 2), (1, 2), (2, 4)))
