@@ -38,11 +38,9 @@ def with_block(frames, block, times):
 def behind_statement(frames):
     """The frames behind the next statement: each of them has a statement that is to be done."""
     block, at, times = frames[-1]
-    frames = frames[:-1] + ((block, at + 1, times),)
-    while frames and frames[-1][1] == len(frames[-1][0]):
-        block, _, times = frames[-1]
-        frames = with_block(frames[:-1], block, times - 1)
-    return frames
+    if at + 1 < len(block):
+        return frames[:-1] + ((block, at + 1, times),)
+    return with_block(frames[:-1], block, times - 1)
 
 
 class Weave:

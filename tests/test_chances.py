@@ -106,6 +106,15 @@ class ChancesTest(unittest.TestCase):
         self.assertEqual(chances(held, R2, 5, "free", 1, 9), {("found", (), (), ("near", 0, 1, 0)): (1, 1)})
         self.assertEqual(let_chance(held, R2, 5, "any", 1, 9), (1, 5))
 
+    def test_cells_and_names_behind_draws(self):
+        block = (("num", "n", 7), ("num", "ab", 8), ("take", "a"), ("write", "a", 0, 0, "n"), ("back", "a"), ("print", "ab"), ("take", "b"),
+                 ("read", "m", "a", 0, 0), ("print", "m"), ("write", "b", 0, 0, "n"), ("give", "c", 1), ("read", "m", "b", 0, 0), ("print", "m"),
+                 ("sum", "m", "m", "ab"), ("print", "m"))
+        slip = ("elder", 0, 1)
+        told = {("over", (8, 0, 7, 15), ((7, slip),), None): (1, 3), ("found", (8,), (), slip): (2, 3)}
+        self.assertEqual(chances(Program(block), BARE2, 3, "free", 1, 99), told)
+        self.assertEqual(chances(Program(block), R2, 3, "any", 1, 99), told)
+
     def test_what_can_come_alone(self):
         # By the way "free" the third of three rooms all tied is stuck by two tags.
         block = (("take", "a"), ("take", "b"), ("print", "n"), ("take", "c"), ("print", "n"))

@@ -292,7 +292,7 @@ class TellingTest(unittest.TestCase):
     def test_lists_are_new(self):
         heap = turned(3)
         heap.read(0, 0, 0)
-        ahead = state(heap)
+        ahead = copy.deepcopy(state(heap))
         for told in (heap.handles(), heap.slips()):
             self.assertIsInstance(told, list)
             told.clear()
@@ -314,9 +314,11 @@ class TellingTest(unittest.TestCase):
     def test_copies_go_on_apart(self):
         heap = turned(2)
         heap.read(0, 0, 0)
+        heap.write(1, 0, 0, -4)
         other = heap.copy()
         self.assertIsInstance(other, Heap)
         self.assertEqual(state(other), state(heap))
+        self.assertEqual(other.cells(0), (-4, 0))
         ahead = state(heap)
         other.write(0, 0, 1, 5)
         other.back(1)

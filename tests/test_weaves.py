@@ -311,6 +311,12 @@ class AllWeavingsTest(unittest.TestCase):
         told.clear()
         self.assertEqual(len(outcomes(hands, R1, 1)), 3)
 
+    def test_cells_and_prints_of_each_weaving(self):
+        hands = hands_of((("take", "gg"), ("num", "n", 7), ("write", "gg", 0, 0, "n"), ("read", "m", "gg", 0, 0), ("print", "m")),
+                         (("num", "n", 5), ("write", "gg", 0, 0, "n")))
+        words = [(word, ((number,), ())) for word, number in ((("over", "over"), 5), (("over", "over"), 7), (("over", "wrong"), 7))]
+        self.assertEqual(outcomes(hands, R1, 1), words)
+
     def test_least_slip_and_least_open(self):
         # A free room: found always.
         hands = hands_of((("take", "gg"), PRINT), (PRINT, ("back", "gg")), (PRINT, PRINT, ("back", "gg")))
