@@ -223,8 +223,8 @@ class NamesTest(unittest.TestCase):
 
     def test_weavings(self):
         for dice, names in self.paired(659, 60):
-            take_none = [("give", "a", dice.randrange(4)), ("give", "bb", dice.randrange(4)), ("back", "bb"), ("read", "n", "bb", 1, 0), ("back", "a")]
-            blocks = [tuple(dice.sample(take_none, dice.randrange(2, 5))) for _ in range(2)]
+            steps = [("give", "a", dice.randrange(4)), ("give", "bb", dice.randrange(4)), ("back", "bb"), ("read", "n", "bb", 1, 0), ("back", "a")]
+            blocks = [tuple(dice.sample(steps, dice.randrange(2, 5))) for _ in range(2)]
             hands = tuple(Program(block) for block in blocks)
             others = tuple(Program(names.block(block)) for block in blocks)
             for call in (whole_weavings, outcomes, least_slip, least_open):

@@ -120,7 +120,7 @@ class PlainTest(unittest.TestCase):
 
     def test_agains_within_agains(self):
         lines = rounds(100, rounds(100, rounds(100, ("num", "b", 1), ("sum", "a", "a", "b"), ("print", "a"))))
-        for most in (0, 1, 2, 3, 4, 5, 6, 303, 304, 305, 306, 4999, 5000):
+        for most in list(range(640)) + list(range(640, 4990, 61)) + list(range(4990, 5001)):
             word, said, _ = plain(program(lines), R1, 1, most)
             self.assertEqual(word, "on")
             # Two agains ahead of all, one ahead of each 100 rounds of three statements.

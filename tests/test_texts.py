@@ -75,7 +75,10 @@ class WebTextTest(TextTest):
             self.bad(read_web, thing, 0)
 
     def test_bad_lines(self):
-        for row in ("", "rooms", "rooms 1", "tie", "tie 0", "tie 0 1 2", "tie 0 1 ", " tie 0 1", "tie  0 1", "tie 0  1", "Tie 0 1", "tie,0,1", "ties 0 1", "end"):
+        for row in (
+            "", "rooms", "rooms 1", "tie", "tie 0", "tie 0 1 2", "tie 0 1 ", " tie 0 1", "tie  0 1", "tie 0  1", "Tie 0 1", "tie,0,1",
+            "ties 0 1", "end",
+        ):
             self.bad(read_web, "rooms 1 1\n" + row, 2)
             self.bad(read_web, "rooms 1 1 1\ntie 0 1\n" + row + "\ntie 1 2", 3)
         for row in ("", "room 1", "rooms 1 ", " rooms 1", "rooms  1", "rooms1", "rooms ", "Rooms 1", "tie 0 1", "tie", "1", "rooms,1"):

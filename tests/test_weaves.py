@@ -93,8 +93,8 @@ def random_weaving(dice, hands, memory, most=30):
 
 
 NO_HANDS = [
-    (), (EMPTY,) * 4, [EMPTY], EMPTY, (EMPTY, None), (None,), (EMPTY, ()), (EMPTY, R1), (EMPTY, "print a"), ((EMPTY,),), (EMPTY, EMPTY, 0), (Program,),
-    {0: EMPTY}, iter((EMPTY,)),
+    (), (EMPTY,) * 4, [EMPTY], EMPTY, (EMPTY, None), (None,), (EMPTY, ()), (EMPTY, R1), (EMPTY, "print a"), ((EMPTY,),),
+    (EMPTY, EMPTY, 0), (Program,), {0: EMPTY}, iter((EMPTY,)),
 ] + NO_TUPLES + DEEP
 
 
@@ -246,7 +246,8 @@ class WovenTaggedTest(unittest.TestCase):
             calls.append(args)
             return len(calls)
         woven_tagged(hands_of((("take", "a"),), (("take", "a"), ("back", "a"), ("give", "a", 1))), R2, 4, keeper, 1, (1, 1, 0, 1))
-        self.assertEqual(calls, [(R2, 4, (), 0), (R2, 4, (("give", 0, 1), ("back", 0)), 0), (R2, 4, (("give", 0, 1), ("back", 0), ("give", 0, 2)), 1)])
+        past = (("give", 0, 1), ("back", 0), ("give", 0, 2))
+        self.assertEqual(calls, [(R2, 4, (), 0), (R2, 4, past[:2], 0), (R2, 4, past, 1)])
 
     def test_a_keepers_own_error_goes_on(self):
         for error in (Full(), NotKept("odd"), NoWeaving(3), KeyError(1), IndexError()):
